@@ -1,0 +1,1 @@
+"""Webs without short rings: how few places can a web have?"""
