@@ -1,4 +1,4 @@
-"""What several modules ask of numbers."""
+"""What several modules ask of numbers and rows."""
 
 from noshortring.errors import NoNumber
 
@@ -15,6 +15,11 @@ def need_number(thing, least, most):
     """Refuses what is no whole number within the bounds."""
     if not is_whole(thing, least, most):
         raise NoNumber()
+
+
+def is_rising(row):
+    """Whether each thing of the row is greater than the one ahead."""
+    return all([one < other for one, other in zip(row, row[1:])])
 
 
 def least_told(numbers):

@@ -14,10 +14,26 @@ def need_ties(d):
     need_number(d, LEAST_TIES, MOST_TIES)
 
 
+def need_any_ties(d):
+    """Refuses what is no number of ties that a place may have, none and one among them."""
+    need_number(d, 0, MOST_TIES)
+
+
+def need_ring(g):
+    """Refuses what is no number of places that the shortest ring is to have."""
+    need_number(g, LEAST_RING, MOST_RING)
+
+
 def need_ties_and_ring(d, g):
     """Refuses what is no number of ties, then what is no number of places of a ring."""
     need_ties(d)
-    need_number(g, LEAST_RING, MOST_RING)
+    need_ring(g)
+
+
+def need_any_ties_and_ring(d, g):
+    """Refuses the like, but for none and one among the ties."""
+    need_any_ties(d)
+    need_ring(g)
 
 
 def sum_of_powers(base, many):
@@ -54,10 +70,15 @@ def has_shorter_ring(web, g):
     return size is not None and size < g
 
 
+def does_fit(web, d, g):
+    """Whether the web is even by d and has no ring of fewer than g places, whatever the bounds of d."""
+    return even_by(web) == d and not has_shorter_ring(web, g)
+
+
 def fits(web, d, g):
     """Whether the web is even by d and has no ring of fewer than g places."""
     need_ties_and_ring(d, g)
-    return even_by(web) == d and not has_shorter_ring(web, g)
+    return does_fit(web, d, g)
 
 
 def surplus(web, d, g):

@@ -1,6 +1,6 @@
 """Webs, the ways in them, and their rings."""
 
-from noshortring.common import is_whole, least_told, need_number
+from noshortring.common import is_rising, is_whole, least_told, need_number
 from noshortring.errors import NoPlace, NoWeb
 
 MOST_PLACES = 16
@@ -18,9 +18,7 @@ def ties_good(many, thing):
     """Whether the thing is a rising tuple of pairs of places, the lesser one ahead."""
     if not isinstance(thing, tuple) or not all([is_pair(many, tie) for tie in thing]):
         return False
-    if not all([a < b for a, b in thing]):
-        return False
-    return all([one < other for one, other in zip(thing, thing[1:])])
+    return all([a < b for a, b in thing]) and is_rising(thing)
 
 
 def is_pair(many, thing):

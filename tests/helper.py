@@ -127,6 +127,59 @@ def plain_fars(web):
     return [[None if far >= far_off else far for far in row] for row in fars]
 
 
+def plain_even(web):
+    counts = {len(near) for near in plain_nears(web)}
+    return counts.pop() if len(counts) == 1 else None
+
+
+def plain_ring(web):
+    """The size of the shortest ring: around each place, the first two ways that meet."""
+    nears = plain_nears(web)
+    sizes = []
+    for start in range(web[0]):
+        fars = {start: 0}
+        ahead = {start: None}
+        for place in (row := [start]):
+            for near in nears[place]:
+                if near not in fars:
+                    fars[near] = fars[place] + 1
+                    ahead[near] = place
+                    row.append(near)
+                elif ahead[place] != near:
+                    sizes.append(fars[place] + fars[near] + 1)
+    return min(sizes, default=None)
+
+
+def plain_fits(web, d, g):
+    size = plain_ring(web)
+    return plain_even(web) == d and (size is None or size >= g)
+
+
+def plain_may(web, d, g):
+    """All pairs of places, either one ahead, that may be tied."""
+    nears = plain_nears(web)
+    fars = plain_fars(web)
+    pairs = itertools.permutations(range(web[0]), 2)
+    return {(a, b) for a, b in pairs if not tied(web, a, b) and len(nears[a]) < d and len(nears[b]) < d
+            and (fars[a][b] is None or fars[a][b] >= g - 1)}
+
+
+def plain_lacks(web, d):
+    return sum(max(0, d - len(near)) for near in plain_nears(web))
+
+
+def without(web, *pairs):
+    """The web with these ties taken out."""
+    return (web[0], tuple(tie for tie in web[1] if tie not in pairs))
+
+
+def turns_of(ring):
+    """A ring, begun at each of its places, both ways about."""
+    for way in (ring, ring[::-1]):
+        for start in range(len(ring)):
+            yield way[start:] + way[:start]
+
+
 def all_rings(web):
     """All rings, each once: its least place first, then the lesser of the two beside it."""
     nears = plain_nears(web)

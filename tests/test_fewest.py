@@ -5,7 +5,7 @@ import unittest
 from noshortring.fewest import fits, least_by_growth, least_fit, surplus, tight, tight_by
 from noshortring.webs import far_of
 from tests.helper import (LATE, LINES, NEVER, PETERSEN, SEVERAL, all_rings, cube_web, even_webs, fields_of, full_web,
-                          known_webs, made, mixed, plain_nears, ring_web, row_web, small_webs, spokes_web,
+                          known_webs, made, mixed, plain_even, ring_web, row_web, small_webs, spokes_web,
                           two_sided_web)
 
 NO_NUMBER = ("NoNumber", {})
@@ -22,11 +22,6 @@ def plain_least(d, g):
     if g % 2:
         return 1 + sum(d * (d - 1) ** i for i in range(r))
     return 2 * sum((d - 1) ** i for i in range(r))
-
-
-def plain_even(web):
-    counts = {len(near) for near in plain_nears(web)}
-    return counts.pop() if len(counts) == 1 else None
 
 
 def ringed_webs():

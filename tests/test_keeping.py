@@ -3,8 +3,13 @@
 import copy
 import unittest
 
+from noshortring.allsmall import (all_fit, all_fit_many, fewest_places, first_fit, kinds_fit, kinds_many, least_form,
+                                  own_many)
 from noshortring.fewest import fits, least_by_growth, least_fit, surplus, tight, tight_by
 from noshortring.growth import full_at, full_by, layers_by_tie, layers_of, longest_fit, ring_at, ring_by
+from noshortring.kinds import kind_counts, kind_even, kind_good, kind_of, kind_ring, kinds_fit_by, web_by
+from noshortring.papers import completed, completions_many, is_completion, lacks, may_tie, paper_for, paper_good
+from noshortring.turning import by_turns, least_by_turns, steps_good, steps_of, turned_ring, turned_ties, turned_web
 from noshortring.webs import (even_by, far_of, first_ring, is_even_by, near_of, pieces_of, renamed, ring_good,
                               shortest, shortest_many, web_good, web_of)
 from tests.helper import NEVER, PETERSEN, SEVERAL, full_web, row_web
@@ -27,7 +32,49 @@ def questions():
             asked += [(call, web, 0, thing) for call in (far_of, layers_by_tie, ring_by, full_by, fits, surplus)]
         asked += [(call, web, a, b) for call in (layers_by_tie, ring_by, full_by) for a, b in web[1][:4]]
         asked += [(call, web, d, g) for call in (fits, surplus) for d in (2, 3, 15) for g in (3, 5, 16)]
-    return asked
+    return asked + paper_questions() + kind_questions() + small_questions()
+
+
+def paper_questions():
+    asked = []
+    papers = [("cases", 0, [(1, ("lack", 2)), (2, ("lack", 1))]), ("cases", 0, [(1, ("lack", [2])), [2, ("lack", 1)]]),
+              ("over", 0), ("ring", [0, 1, 2]), ("cases", 0, [(1, ("cases", 2, [])), (2, ("cases", 1, []))])]
+    for web in WEBS + [(3, ()), (5, ()), (6, ()), row_web(3), full_web(4)]:
+        for d, g in [(0, 3), (1, 3), (2, 4), (3, 5), (15, 16), ([1], {}), (True, 3)]:
+            asked += [(lacks, web, d)] + [(call, web, d, g) for call in (completed, paper_for, completions_many)]
+            asked += [(may_tie, web, d, g, a, b) for a, b in [(0, 0), (0, web[0] - 1), ([0], 0), (0, {})]]
+            asked += [(call, web, d, g, thing) for call in (is_completion, paper_good) for thing in papers + [web, [web]]]
+    return asked + [(call, (3, ()), 1, 3, thing) for call in (is_completion, paper_good) for thing in NEVER]
+
+
+def kind_questions():
+    asked = []
+    for thing in NEVER + [("cube", 3), ("two", 2, 3), ("ring", [3]), ("spokes", 5, 2), ([], {}), ("full", 16)]:
+        asked += [(call, thing) for call in (kind_good, web_by, kind_counts, kind_even, kind_ring)]
+    for thing in NEVER + [(), (1,), (1, 4), (1, 2, 3), [1, 2], (1, [2])]:
+        asked += [(call, 8, thing) for call in (steps_good, turned_web, turned_ties, turned_ring)]
+    for d, g in [(0, 3), (2, 3), (2, 16), (3, 4), (3, 6), (4, 4), (15, 3), ([2], 3), (2, {})]:
+        asked += [(kinds_fit_by, d, g), (least_by_turns, d, g), (by_turns, 16, d, g), (by_turns, 6, d, g)]
+    return asked + [(call, web) for call in (steps_of, kind_of) for web in WEBS]
+
+
+def small_questions():
+    asked = []
+    for d, g in [(0, 3), (2, 3), (2, 5), (3, 3), (3, 4), (6, 3), ([2], 3), (2, {}), (True, 3)]:
+        asked += [(fewest_places, d, g)]
+        asked += [(call, many, d, g) for call in (all_fit_many, first_fit, all_fit, kinds_fit, kinds_many)
+                  for many in (1, 4, 6, [7], None)]
+    return asked + [(call, web) for call in (least_form, own_many) for web in WEBS + [row_web(6), full_web(5)]]
+
+
+def spoilt(told):
+    """Changes a told thing, and all lists within it, as an asker may do with what is his own."""
+    things = list(told) if isinstance(told, (list, tuple)) else []
+    for thing in things:
+        spoilt(thing)
+    if isinstance(told, list):
+        told.append("more")
+        told[0] = None
 
 
 def answer_of(question):
@@ -64,6 +111,26 @@ class Keeping(unittest.TestCase):
             self.assertEqual(call(*things), kept)
             self.assertTrue(all(type(row) is tuple for row in kept))
 
+    def test_lists_within_are_the_askers_own(self):
+        asked = [(paper_for, (3, ()), 1, 3), (paper_for, (5, ()), 1, 16), (by_turns, 16, 2, 3), (by_turns, 3, 2, 4),
+                 (kinds_fit_by, 3, 5), (kinds_fit_by, 15, 4), (all_fit, 6, 2, 3), (all_fit, 7, 3, 3), (kinds_fit, 7, 2, 3),
+                 (kinds_fit, 1, 1, 3)]
+        for question in asked:
+            told = answer_of(question)
+            kept = copy.deepcopy(told)
+            spoilt(told[1])
+            self.assertNotEqual(told, kept)
+            self.assertEqual(answer_of(question), kept)
+
+    def test_a_paper_is_not_kept_by_those_who_look_at_it(self):
+        paper = paper_for((5, ()), 1, 3)
+        before = copy.deepcopy(paper)
+        self.assertIs(paper_good((5, ()), 1, 3, paper), True)
+        self.assertEqual(paper, before)
+        spoilt(paper)
+        self.assertIs(paper_good((5, ()), 1, 3, paper), False)
+        self.assertIs(paper_good((5, ()), 1, 3, before), True)
+
     def test_a_web_stays_when_its_list_is_changed(self):
         things = [(1, 0), (1, 2)]
         web = web_of(3, things)
@@ -89,6 +156,12 @@ class Keeping(unittest.TestCase):
         self.assertIs(ring_good(web, first_ring(web)), True)
         self.assertIs(fits(web, *tight_by(web)), True)
         self.assertEqual(layers_of(web, near_of(web, 0)[0])[1], near_of(web, near_of(web, 0)[0]))
+        self.assertIs(paper_good((5, ()), 1, 3, paper_for((5, ()), 1, 3)), True)
+        self.assertIs(is_completion((6, ()), 1, 3, completed((6, ()), 1, 3)), True)
+        many, steps = least_by_turns(3, 4)
+        self.assertEqual(steps_of(turned_web(many, steps)), steps)
+        self.assertEqual([kind_of(web_by(kind)) for kind in kinds_fit_by(3, 6)], kinds_fit_by(3, 6))
+        self.assertEqual([least_form(each) for each in kinds_fit(7, 4, 3)], kinds_fit(7, 4, 3))
 
 
 if __name__ == "__main__":

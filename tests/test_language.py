@@ -1,6 +1,7 @@
 """The package keeps to the part of Python that it is written in: the rules that a short look can tell."""
 
 import ast
+import builtins
 import pathlib
 import re
 import unittest
@@ -86,6 +87,13 @@ class Language(unittest.TestCase):
                     self.assertFalse(node.id.startswith("_"), (path, node.lineno))
                 if isinstance(node, ast.Call) and isinstance(node.func, ast.Attribute):
                     self.assertIn(node.func.attr, METHODS, (path, node.lineno))
+
+    def test_locals_are_not_called_like_imports(self):
+        for path, tree in trees():
+            drawn = {name.name for node in ast.walk(tree) if isinstance(node, ast.ImportFrom) for name in node.names}
+            others = [node.arg for node in ast.walk(tree) if isinstance(node, ast.arg)]
+            others += [node.id for node in ast.walk(tree) if isinstance(node, ast.Name) and isinstance(node.ctx, ast.Store)]
+            self.assertEqual([name for name in others if name in drawn or name in dir(builtins)], [], path)
 
     def test_imports_are_of_the_package_and_go_one_way(self):
         drawn = {}

@@ -6,17 +6,10 @@ import unittest
 from noshortring.webs import far_of, first_ring, ring_good, shortest, shortest_many
 from tests.helper import (LATE, LINES, NEVER, PETERSEN, SEVERAL, TooLong, all_rings, cube_web, even_webs, full_web,
                           known_webs, made, mixed, ring_web, row_web, small_webs, spokes_web, theta_web, tied,
-                          two_sided_web, within)
+                          turns_of, two_sided_web, within)
 
 # Rows of the program that a question may take; all rows of places of a long ring would take far more.
 SOON = 200000
-
-
-def turns_of(ring):
-    """A ring, begun at each of its places, both ways about."""
-    for way in (ring, ring[::-1]):
-        for start in range(len(ring)):
-            yield way[start:] + way[:start]
 
 
 class RingGood(unittest.TestCase):
