@@ -150,6 +150,27 @@ def plain_ring(web):
     return min(sizes, default=None)
 
 
+def plain_pieces(web):
+    """The rising tuples of places between which there are ways, by their least places."""
+    fars = plain_fars(web)
+    return sorted({tuple(b for b in range(web[0]) if fars[a][b] is not None) for a in range(web[0])})
+
+
+def rings_so_long(web, size):
+    """The rings of so many places, each once, with its least place first and the lesser way about."""
+    nears = plain_nears(web)
+    rows = [(start,) for start in range(web[0])]
+    for step in range(size - 1):
+        rows = [row + (near,) for row in rows for near in nears[row[-1]] if near > row[0] and near not in row]
+    return [row for row in rows if row[0] in nears[row[-1]] and row[1] < row[-1]]
+
+
+def plain_merit(web):
+    """How many places the shortest ring has, endless for none, and how many of these there are not."""
+    size = plain_ring(web)
+    return (1000, 0) if size is None else (size, -len(rings_so_long(web, size)))
+
+
 def plain_fits(web, d, g):
     size = plain_ring(web)
     return plain_even(web) == d and (size is None or size >= g)
@@ -222,6 +243,14 @@ def fields_of(call, *things):
     except ValueError as refusal:
         return (type(refusal).__name__, vars(refusal))
     return None
+
+
+def outcome(call, *things):
+    """What a call tells, or the name of its refusal with the fields."""
+    try:
+        return call(*things)
+    except ValueError as refusal:
+        return (type(refusal).__name__, vars(refusal))
 
 
 class TooLong(Exception):

@@ -5,14 +5,18 @@ import unittest
 
 from noshortring.allsmall import (all_fit, all_fit_many, fewest_places, first_fit, kinds_fit, kinds_many, least_form,
                                   own_many)
+from noshortring.betterings import (better_crossing, climbed, crossed, crossings_of, is_better, spliced, unspliced)
+from noshortring.desk import Desk
+from noshortring.doubling import doubled, doubled_ring, first_fold, fold_good, sides_good, sides_of
 from noshortring.fewest import fits, least_by_growth, least_fit, surplus, tight, tight_by
 from noshortring.growth import full_at, full_by, layers_by_tie, layers_of, longest_fit, ring_at, ring_by
 from noshortring.kinds import kind_counts, kind_even, kind_good, kind_of, kind_ring, kinds_fit_by, web_by
 from noshortring.papers import completed, completions_many, is_completion, lacks, may_tie, paper_for, paper_good
+from noshortring.texts import web_read, web_shown
 from noshortring.turning import by_turns, least_by_turns, steps_good, steps_of, turned_ring, turned_ties, turned_web
 from noshortring.webs import (even_by, far_of, first_ring, is_even_by, near_of, pieces_of, renamed, ring_good,
                               shortest, shortest_many, web_good, web_of)
-from tests.helper import NEVER, PETERSEN, SEVERAL, full_web, row_web
+from tests.helper import LATE, NEVER, PETERSEN, SEVERAL, cube_web, full_web, ring_web, row_web
 
 PLAIN = [(), (3, ()), (2, [(0, 1)]), (4, ((0, [1]), {})), [(3, 1), (1, 3), (0, 2)], [(0, 1), [1, 2], {}]]
 WEBS = [PETERSEN, SEVERAL, full_web(16), row_web(16), (1, ()), (16, ())]
@@ -32,7 +36,8 @@ def questions():
             asked += [(call, web, 0, thing) for call in (far_of, layers_by_tie, ring_by, full_by, fits, surplus)]
         asked += [(call, web, a, b) for call in (layers_by_tie, ring_by, full_by) for a, b in web[1][:4]]
         asked += [(call, web, d, g) for call in (fits, surplus) for d in (2, 3, 15) for g in (3, 5, 16)]
-    return asked + paper_questions() + kind_questions() + small_questions()
+    asked += paper_questions() + kind_questions() + small_questions()
+    return asked + better_questions() + fold_questions() + text_questions()
 
 
 def paper_questions():
@@ -65,6 +70,45 @@ def small_questions():
         asked += [(call, many, d, g) for call in (all_fit_many, first_fit, all_fit, kinds_fit, kinds_many)
                   for many in (1, 4, 6, [7], None)]
     return asked + [(call, web) for call in (least_form, own_many) for web in WEBS + [row_web(6), full_web(5)]]
+
+
+def better_questions():
+    asked = []
+    webs = WEBS + [LATE, cube_web(3), ring_web(4), row_web(8)]
+    for web in webs:
+        asked += [(call, web) for call in (crossings_of, better_crossing, climbed)]
+        asked += [(is_better, web, other) for other in webs + [[web], None]]
+        for thing in NEVER + [0, 1, 2]:
+            asked += [(call, web, 0, 1, thing, 3) for call in (crossed, spliced)]
+            asked += [(unspliced, web, 0, thing)]
+    return asked
+
+
+def fold_questions():
+    asked = []
+    webs = [PETERSEN, SEVERAL, LATE, cube_web(3), ring_web(12), ring_web(3), (1, ()), (12, ()), full_web(16)]
+    for web in webs:
+        asked += [(call, web) for call in (sides_of, doubled, doubled_ring)]
+        asked += [(first_fold, web, other) for other in webs]
+        for thing in NEVER + [(0,) * web[0], (0, 1) * (web[0] // 2), [0] * web[0], tuple(range(web[0]))]:
+            asked += [(sides_good, web, thing), (fold_good, web, ring_web(3), thing), (fold_good, web, web, thing)]
+    return asked
+
+
+def fresh_say(*rows):
+    """The answer of a new desk to the last row."""
+    desk = Desk()
+    for row in rows[:-1]:
+        desk.say(row)
+    return desk.say(rows[-1])
+
+
+def text_questions():
+    asked = [(web_shown, web) for web in WEBS]
+    asked += [(web_read, thing) for thing in NEVER + ["web 3 1\ntie 0 2", "web 3 1\ntie 2 0", "web 3 1", "web 1 0\n"]]
+    asked += [(fresh_say, thing) for thing in NEVER + ["back", "fresh 0", "near 1", "kind cube 9", "lacks 16", "shown"]]
+    asked += [(fresh_say, "kind spokes 5 2", row) for row in ["ties", "near 0", "first", "pieces", "layers 0", "fits 3 5", "back"]]
+    return asked + [(fresh_say, "kind cube 3", "cross 0 1 6 7", row) for row in ["back", "ties", "ring", ["ties"]]]
 
 
 def spoilt(told):
@@ -114,7 +158,8 @@ class Keeping(unittest.TestCase):
     def test_lists_within_are_the_askers_own(self):
         asked = [(paper_for, (3, ()), 1, 3), (paper_for, (5, ()), 1, 16), (by_turns, 16, 2, 3), (by_turns, 3, 2, 4),
                  (kinds_fit_by, 3, 5), (kinds_fit_by, 15, 4), (all_fit, 6, 2, 3), (all_fit, 7, 3, 3), (kinds_fit, 7, 2, 3),
-                 (kinds_fit, 1, 1, 3)]
+                 (kinds_fit, 1, 1, 3), (crossings_of, cube_web(3)), (crossings_of, full_web(4)), (climbed, LATE),
+                 (climbed, full_web(8))]
         for question in asked:
             told = answer_of(question)
             kept = copy.deepcopy(told)
@@ -162,6 +207,24 @@ class Keeping(unittest.TestCase):
         self.assertEqual(steps_of(turned_web(many, steps)), steps)
         self.assertEqual([kind_of(web_by(kind)) for kind in kinds_fit_by(3, 6)], kinds_fit_by(3, 6))
         self.assertEqual([least_form(each) for each in kinds_fit(7, 4, 3)], kinds_fit(7, 4, 3))
+        self.assertEqual(web_read(web_shown(web)), web)
+        self.assertIs(sides_good(doubled(LATE), sides_of(doubled(LATE))), True)
+        self.assertIs(fold_good(doubled(ring_web(5)), ring_web(5), first_fold(doubled(ring_web(5)), ring_web(5))), True)
+        self.assertIsNone(better_crossing(climbed(LATE)[-1]))
+        for a, b, c, e in crossings_of(cube_web(3)):
+            self.assertEqual(crossed(crossed(cube_web(3), a, b, c, e), a, c, b, e), cube_web(3))
+        for a, b in web[1][1:]:
+            self.assertEqual(unspliced(spliced(web, *web[1][0], b, a), 10, 11), web)
+
+    def test_a_desk_keeps_nothing_of_what_is_asked_elsewhere(self):
+        desk = Desk()
+        desk.say("kind spokes 5 2")
+        before = [desk.say(row) for row in ("shown", "first", "pieces", "layers 0")]
+        for question in text_questions() + better_questions()[::7]:
+            answer_of(question)
+        self.assertEqual([desk.say(row) for row in ("shown", "first", "pieces", "layers 0")], before)
+        self.assertEqual(desk.say("back"), "ok")
+        self.assertEqual(desk.say("shown"), "web 1 0")
 
 
 if __name__ == "__main__":
